@@ -411,30 +411,6 @@ func TestLongComparisons(t *testing.T) {
 	})
 }
 
-// P12.1: the order of fractions that lie as close to each other as may be.
-func TestCompared(t *testing.T) {
-	r := rand.New(rand.NewSource(3))
-	for range 400 {
-		a, b := someLong(r), someLong(r)
-		if r.Intn(2) == 0 {
-			b = fromRat(plus(toRat(a), new(big.Rat).SetFrac(big.NewInt(r.Int63n(3)), toBig(power(r.Intn(100))))))
-		}
-		want := toRat(a).Cmp(toRat(b))
-		if compared(a, b) != want || compared(b, a) != -want || compared(a, a) != 0 {
-			t.Errorf("compared(%v, %v): %d, %d, wanted %d", a, b, compared(a, b), compared(b, a), want)
-		}
-	}
-}
-
-// someLong returns a fraction of up to 100 limbs.
-func someLong(r *rand.Rand) ratio.Ratio {
-	num, den := make([]byte, r.Intn(400)), make([]byte, 1+r.Intn(400))
-	r.Read(num)
-	r.Read(den)
-	den[0] |= 1
-	return fromRat(new(big.Rat).SetFrac(new(big.Int).SetBytes(num), new(big.Int).SetBytes(den)))
-}
-
 // P12.1, P12.3: random turns, held against the plain reckoning.
 func TestManyTurns(t *testing.T) {
 	r := rand.New(rand.NewSource(1))

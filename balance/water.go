@@ -4,6 +4,7 @@ import (
 	"slices"
 
 	"psephos/api"
+	"psephos/exact"
 	"psephos/limb"
 	"psephos/ratio"
 )
@@ -11,11 +12,11 @@ import (
 // filled returns the level to which a stake raises the least of some supports.
 func filled(stake uint64, supports []ratio.Ratio) (ratio.Ratio, api.Errno) {
 	ascending := slices.Clone(supports)
-	slices.SortFunc(ascending, compared)
+	slices.SortFunc(ascending, exact.Cmp)
 	sum, level := number(0), number(0)
 	for i, support := range ascending {
 		// The first one is raised even if the stake is 0: to itself.
-		if i > 0 && compared(level, support) <= 0 {
+		if i > 0 && exact.Cmp(level, support) <= 0 {
 			break
 		}
 		var e api.Errno
@@ -44,7 +45,7 @@ func shared(stake uint64, sum ratio.Ratio, count int) (ratio.Ratio, api.Errno) {
 // product of the denominators: that of a level has most of that of the support
 // in it.
 func lacking(support, level ratio.Ratio) (ratio.Ratio, api.Errno) {
-	if compared(support, level) >= 0 {
+	if exact.Cmp(support, level) >= 0 {
 		return number(0), api.OK
 	}
 	common, _ := limb.Gcd(support.Den, level.Den)
@@ -62,26 +63,6 @@ func lacking(support, level ratio.Ratio) (ratio.Ratio, api.Errno) {
 	bottom, _ := limb.Mul(support.Num, other)
 	num, _ := limb.Sub(top, bottom)
 	return ratio.Make(num, den)
-}
-
-// compared returns -1, 0 or 1 if a is less than, equal to or greater than b.
-// Layer 2 can't tell those apart of which a product is too long, so this goes
-// by their whole parts, and then by what is left of them, turned over.
-func compared(a, b ratio.Ratio) int {
-	if slices.Equal(a.Num, b.Num) && slices.Equal(a.Den, b.Den) {
-		return 0
-	}
-	for {
-		whole, rest, _ := limb.DivMod(a.Num, a.Den)
-		otherWhole, otherRest, _ := limb.DivMod(b.Num, b.Den)
-		if order := limb.Cmp(whole, otherWhole); order != 0 {
-			return order
-		}
-		if len(rest) == 0 || len(otherRest) == 0 {
-			return limb.Cmp(rest, otherRest)
-		}
-		a, b = ratio.Ratio{Num: b.Den, Den: otherRest}, ratio.Ratio{Num: a.Den, Den: rest}
-	}
 }
 
 func number(n uint64) ratio.Ratio {
